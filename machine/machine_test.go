@@ -134,3 +134,34 @@ func TestJumps(t *testing.T) {
 		}
 	}
 }
+
+// TestOrder: all pairs of values that stand in their order here.
+func TestOrder(t *testing.T) {
+	for _, all := range [][]api.Value{
+		{{}, whole(-1 << 63), whole(-2), whole(-1), whole(0), whole(1), whole(10), whole(1<<63 - 1)},
+		{{}, word(""), word("\x00"), word("1"), word("10"), word("9"), word("B"), word("a"), word("aa"), word("ab"), word("b"), word("\xff")},
+		{{}, truth(false), truth(true)},
+	} {
+		for i, left := range all {
+			for k, right := range all {
+				if got := Order(left, right); got < 0 != (i < k) || got > 0 != (i > k) {
+					t.Errorf("Order(%v, %v): %d", left, right, got)
+				}
+			}
+		}
+	}
+}
+
+// TestHolds: what is FALSE or NULL does not; nor does what has an error.
+func TestHolds(t *testing.T) {
+	for text, want := range map[string]bool{"TRUE": true, "FALSE": false, "NULL": false, "c": true, "x": false, "x.a = 10": true, "y.a = 10": false, "y.a IS NULL": true} {
+		p, _ := CompileAs(read(t, text), columns, api.Bool)
+		if got, errno := p.Holds(row); got != want || errno != api.OK {
+			t.Errorf("%q: %t, %d, want %t", text, got, errno, want)
+		}
+	}
+	p, _ := CompileAs(read(t, "c AND 1 / 0 = 1"), columns, api.Bool)
+	if got, errno := p.Holds(row); got || errno != api.ErrZero {
+		t.Errorf("%t, %d, want ErrZero", got, errno)
+	}
+}

@@ -50,6 +50,12 @@ func (p Program) Run(row []api.Value) (api.Value, api.Errno) {
 	return s.pop(), api.OK
 }
 
+// Holds tells whether a truth is TRUE for a row: neither FALSE nor NULL.
+func (p Program) Holds(row []api.Value) (bool, api.Errno) {
+	v, errno := p.Run(row)
+	return v == truth(true), errno
+}
+
 // apply takes what an instruction works on from the stack.
 func (s *stack) apply(k kind) (api.Value, api.Errno) {
 	right := s.pop()
@@ -76,7 +82,7 @@ func two(k kind, left, right api.Value) (api.Value, api.Errno) {
 	case add, subtract, multiply, divide, remainder:
 		return reckon(k, left.N, right.N)
 	}
-	return truth(holds(k, order(left, right))), api.OK
+	return truth(holds(k, Order(left, right))), api.OK
 }
 
 func truth(b bool) api.Value {
@@ -105,8 +111,11 @@ func joined(left, right, telling api.Value) api.Value {
 	return left
 }
 
-// order is below 0, 0 or above 0, as two values of one type, none of them NULL, come behind one another.
-func order(left, right api.Value) int {
+// Order is below 0, 0 or above 0, as the left one of two values of one type comes ahead of the right one, is the same, or comes behind it. NULL comes first: its kind is the least.
+func Order(left, right api.Value) int {
+	if missing(left) || missing(right) {
+		return cmp.Compare(left.Kind, right.Kind)
+	}
 	if left.Kind == api.Text {
 		return strings.Compare(left.S, right.S)
 	}

@@ -20,22 +20,27 @@ func (d *DB) Exec(text string) (api.Result, api.Errno) {
 	if !ok {
 		return api.Result{}, api.ErrSyntax
 	}
-	count, errno := d.do(statement)
+	result, errno := d.do(statement)
 	if errno != api.OK {
 		return api.Result{}, errno
 	}
-	return api.Result{Count: count}, api.OK
+	return result, api.OK
 }
 
-// do gives how many rows a statement has put in. DELETE, UPDATE and SELECT are read, but not done yet.
-func (d *DB) do(statement syntax.Statement) (int, api.Errno) {
+func (d *DB) do(statement syntax.Statement) (result api.Result, errno api.Errno) {
 	switch s := statement.(type) {
 	case *syntax.Create:
-		return 0, d.create(s)
+		errno = d.create(s)
 	case *syntax.Insert:
-		return 1, d.insert(s)
+		result.Count, errno = d.insert(s)
+	case *syntax.Delete:
+		result.Count, errno = d.delete(s)
+	case *syntax.Update:
+		result.Count, errno = d.update(s)
+	case *syntax.Select:
+		result.Rows, errno = d.choose(s)
 	}
-	return 0, api.OK
+	return result, errno
 }
 
 // Load makes a database of a text (P12). It takes no text yet, so that nobody gets a database that is none.

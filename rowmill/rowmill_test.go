@@ -172,17 +172,11 @@ func TestApart(t *testing.T) {
 	saved(t, b, "CREATE TABLE t (b TEXT)", "INSERT INTO t VALUES ('x')")
 }
 
-// TestNotDoneYet: what is read, but not done yet, changes nothing; what is no statement is told.
+// TestNotDoneYet: a JOIN is refused rather than answered wrongly, and Load takes nothing.
 func TestNotDoneYet(t *testing.T) {
 	d := opened(t)
-	does(t, d, 1, "INSERT INTO n VALUES (1)")
-	before := d.Save()
-	does(t, d, 0, "DELETE FROM n WHERE a = 1;", "UPDATE n SET a = 2 WHERE TRUE", "SELECT a FROM n ORDER BY a LIMIT 1")
-	refused(t, d, api.ErrSyntax, "DELETE n", "DELETE FROM n WHERE", "UPDATE n SET", "UPDATE n SET a", "SELECT a", "SELECT a FROM n LIMIT a", "SELECT a FROM n JOIN n ON 1 JOIN n ON 1 JOIN n ON 1")
-	if d.Save() != before {
-		t.Errorf("Save: %q, want %q", d.Save(), before)
-	}
-	if db, errno := Load(before); db == nil && errno == api.OK {
+	refused(t, d, api.ErrSyntax, "SELECT a FROM n JOIN n ON 1 JOIN n ON 1 JOIN n ON 1", "SELECT x.a FROM n AS x JOIN n AS y ON TRUE", "SELECT x.a FROM n AS x LEFT JOIN n AS y ON TRUE")
+	if db, errno := Load(d.Save()); db == nil && errno == api.OK {
 		t.Error("Load: OK, and no database")
 	}
 }

@@ -14,7 +14,16 @@ var starts = []string{
 	"INSERT INTO n VALUES (9223372036854775807 % -7 / 1)",
 	"DELETE FROM m WHERE a IS NOT NULL",
 	"UPDATE m SET a = a - 1, b = NULL WHERE c AND b >= 'x'",
+	"SELECT DISTINCT a, m.b FROM m WHERE c OR a = 0 ORDER BY -a DESC, b LIMIT 2 OFFSET 1",
 	"SELECT DISTINCT x.a, 1 FROM m AS x LEFT JOIN n ON x.a = n.a WHERE TRUE ORDER BY b DESC, 1 LIMIT 3 OFFSET 4",
+}
+
+// filled has rows for these statements to go through.
+func filled(t *testing.T) *DB {
+	t.Helper()
+	d := opened(t)
+	does(t, d, 1, "INSERT INTO n VALUES (1)", "INSERT INTO n VALUES (NULL)", "INSERT INTO b VALUES (TRUE)", "INSERT INTO m VALUES (1, 'x', TRUE)", "INSERT INTO m VALUES (NULL, NULL, NULL)", "INSERT INTO m VALUES (0, '', FALSE)")
+	return d
 }
 
 // checkAny: whatever the text, Exec ends, and with an error there is nothing else, and nothing has changed.
@@ -28,6 +37,9 @@ func checkAny(t *testing.T, d *DB, text string) {
 	if errno != api.OK && (r.Rows != nil || r.Count != 0 || d.Save() != before) {
 		t.Errorf("Exec(%q): %v, %d, and Save %q, before %q", text, r, errno, d.Save(), before)
 	}
+	if r.Rows != nil && (r.Count != 0 || d.Save() != before) {
+		t.Errorf("Exec(%q): %v, and Save %q, before %q", text, r, d.Save(), before)
+	}
 	if errno == api.OK && !strings.Contains(d.Save(), "CREATE TABLE m (a INT, b TEXT, c BOOL)\n") {
 		t.Errorf("Exec(%q): Save %q", text, d.Save())
 	}
@@ -36,7 +48,7 @@ func checkAny(t *testing.T, d *DB, text string) {
 func TestSpoiltStatements(t *testing.T) {
 	const bytes = "\x00 '(),.;=<>+-*/%0a_\x80\xff"
 	for _, s := range starts {
-		d := opened(t)
+		d := filled(t)
 		for at := range len(s) {
 			checkAny(t, d, s[:at])
 			checkAny(t, d, s[at:])
@@ -62,10 +74,13 @@ func TestShortStatements(t *testing.T) {
 		}
 		rows, last = append(rows, next...), next
 	}
-	d := opened(t)
+	d := filled(t)
 	for _, row := range rows {
 		checkAny(t, d, "INSERT INTO n VALUES ("+row+")")
 		checkAny(t, d, "INSERT INTO b VALUES ("+row+")")
+		checkAny(t, d, "SELECT "+row+" FROM m ORDER BY a")
+		checkAny(t, d, "UPDATE n SET a = "+row)
+		checkAny(t, d, "DELETE FROM m WHERE a = 7 AND "+row)
 	}
 }
 
@@ -74,6 +89,6 @@ func FuzzExec(f *testing.F) {
 		f.Add(s)
 	}
 	f.Fuzz(func(t *testing.T, text string) {
-		checkAny(t, opened(t), text)
+		checkAny(t, filled(t), text)
 	})
 }

@@ -1,6 +1,8 @@
 package rowmill
 
 import (
+	"slices"
+
 	"rowmill/api"
 	"rowmill/machine"
 	"rowmill/syntax"
@@ -20,6 +22,20 @@ func (d *DB) find(name string) *table {
 		}
 	}
 	return nil
+}
+
+// place of a column in the rows is below 0, if there is no such column.
+func (t *table) place(column string) int {
+	return slices.IndexFunc(t.columns, func(c syntax.Column) bool { return c.Name == column })
+}
+
+// scope has the columns that a value may name, if the table is a source called so.
+func (t *table) scope(source string) []machine.Column {
+	var columns []machine.Column
+	for _, c := range t.columns {
+		columns = append(columns, machine.Column{Source: source, Name: c.Name, Type: c.Type})
+	}
+	return columns
 }
 
 func (d *DB) create(s *syntax.Create) api.Errno {
@@ -42,52 +58,4 @@ func nameTwice(columns []syntax.Column) bool {
 		}
 	}
 	return false
-}
-
-func (d *DB) insert(s *syntax.Insert) api.Errno {
-	t := d.find(s.Table)
-	if t == nil {
-		return api.ErrName
-	}
-	programs, errno := t.compileRow(s.Values)
-	if errno != api.OK {
-		return errno
-	}
-	row, errno := reckonAll(programs)
-	if errno != api.OK {
-		return errno
-	}
-	if len(t.rows) == api.MaxRows {
-		return api.ErrFull
-	}
-	t.rows = append(t.rows, row)
-	return api.OK
-}
-
-// compileRow compiles a value for each column, none of which may name one.
-func (t *table) compileRow(values []*syntax.Value) ([]machine.Program, api.Errno) {
-	if len(values) != len(t.columns) {
-		return nil, api.ErrType
-	}
-	var programs []machine.Program
-	for i, v := range values {
-		p, errno := machine.CompileAs(v, nil, t.columns[i].Type)
-		if errno != api.OK {
-			return nil, errno
-		}
-		programs = append(programs, p)
-	}
-	return programs, api.OK
-}
-
-func reckonAll(programs []machine.Program) ([]api.Value, api.Errno) {
-	var row []api.Value
-	for _, p := range programs {
-		v, errno := p.Run(nil)
-		if errno != api.OK {
-			return nil, errno
-		}
-		row = append(row, v)
-	}
-	return row, api.OK
 }
