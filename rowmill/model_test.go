@@ -73,15 +73,17 @@ var parts = []part{
 	})},
 }
 
-// model does by plain steps what the document says of the rows of t.
+// model does by plain steps what the document says of the rows of a source, with these values.
 type model struct {
 	*rand.Rand
-	rows [][]api.Value
+	from  string
+	parts []part
+	rows  [][]api.Value
 }
 
 func (m *model) pick(kind int) part {
 	for {
-		p := parts[m.IntN(len(parts))]
+		p := m.parts[m.IntN(len(m.parts))]
 		if kind == api.Null || p.kind == kind || p.kind == api.Null {
 			return p
 		}
@@ -165,7 +167,7 @@ type ask struct {
 }
 
 func (m *model) ask() (ask, string) {
-	q := ask{distinct: m.IntN(2) == 0, limit: 99}
+	q := ask{distinct: m.IntN(2) == 0, limit: 99999}
 	var values, orders []string
 	for range 1 + m.IntN(3) {
 		q.values = append(q.values, m.pick(api.Null))
@@ -176,7 +178,7 @@ func (m *model) ask() (ask, string) {
 		q.orders, q.desc = append(q.orders, p), append(q.desc, desc == 1)
 		orders = append(orders, p.text+[]string{"", " DESC"}[desc])
 	}
-	text := "SELECT " + []string{"", "DISTINCT "}[btoi(q.distinct)] + strings.Join(values, ", ") + " FROM t"
+	text := "SELECT " + []string{"", "DISTINCT "}[btoi(q.distinct)] + strings.Join(values, ", ") + " FROM " + m.from
 	var where string
 	q.where, where = m.where()
 	text += where
@@ -292,7 +294,7 @@ func oneOf(rows [][]api.Value, row []api.Value) bool {
 func TestModel(t *testing.T) {
 	seen := map[string]int{}
 	for seed := range 400 {
-		m := &model{Rand: rand.New(rand.NewPCG(uint64(seed), 7))}
+		m := &model{Rand: rand.New(rand.NewPCG(uint64(seed), 7)), from: "t", parts: parts}
 		d := New()
 		does(t, d, 0, "CREATE TABLE t (a INT, b TEXT, c BOOL)")
 		for range m.IntN(26) {

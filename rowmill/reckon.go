@@ -18,12 +18,12 @@ func compileAll(values []*syntax.Value, columns []machine.Column) ([]machine.Pro
 	return programs, api.OK
 }
 
-// condition compiles what stands behind WHERE. One that is left out (nil) holds for every row, as TRUE does.
-func condition(where *syntax.Value, columns []machine.Column) (machine.Program, api.Errno) {
-	if where == nil {
-		where = &syntax.Value{Op: syntax.Literal, Literal: api.Value{Kind: api.Bool, N: 1}}
+// condition compiles what stands behind WHERE or ON. One that is left out (nil) holds for every row, as TRUE does.
+func condition(v *syntax.Value, columns []machine.Column) (machine.Program, api.Errno) {
+	if v == nil {
+		v = &syntax.Value{Op: syntax.Literal, Literal: api.Value{Kind: api.Bool, N: 1}}
 	}
-	return machine.CompileAs(where, columns, api.Bool)
+	return machine.CompileAs(v, columns, api.Bool)
 }
 
 // reckonAll gives new memory.

@@ -42,6 +42,3 @@ func (d *DB) do(statement syntax.Statement) (result api.Result, errno api.Errno)
 	}
 	return result, errno
 }
-
-// Load makes a database of a text (P12). It takes no text yet, so that nobody gets a database that is none.
-func Load(saved string) (*DB, api.Errno) { return nil, api.ErrBytes }

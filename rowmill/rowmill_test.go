@@ -171,12 +171,3 @@ func TestApart(t *testing.T) {
 	saved(t, a, "CREATE TABLE t (a INT)", "INSERT INTO t VALUES (1)")
 	saved(t, b, "CREATE TABLE t (b TEXT)", "INSERT INTO t VALUES ('x')")
 }
-
-// TestNotDoneYet: a JOIN is refused rather than answered wrongly, and Load takes nothing.
-func TestNotDoneYet(t *testing.T) {
-	d := opened(t)
-	refused(t, d, api.ErrSyntax, "SELECT a FROM n JOIN n ON 1 JOIN n ON 1 JOIN n ON 1", "SELECT x.a FROM n AS x JOIN n AS y ON TRUE", "SELECT x.a FROM n AS x LEFT JOIN n AS y ON TRUE")
-	if db, errno := Load(d.Save()); db == nil && errno == api.OK {
-		t.Error("Load: OK, and no database")
-	}
-}

@@ -2,6 +2,7 @@ package rowmill
 
 import (
 	"slices"
+	"strconv"
 
 	"rowmill/api"
 	"rowmill/machine"
@@ -10,10 +11,10 @@ import (
 
 // query is a SELECT whose names and types have been looked at.
 type query struct {
-	rows   [][]api.Value
-	values []machine.Program
-	where  machine.Program
-	orders []machine.Program
+	sources []source
+	values  []machine.Program
+	where   machine.Program
+	orders  []machine.Program
 }
 
 // choose gives the rows that a SELECT tells, as new memory.
@@ -22,7 +23,11 @@ func (d *DB) choose(s *syntax.Select) ([][]api.Value, api.Errno) {
 	if errno != api.OK {
 		return nil, errno
 	}
-	rows, _, errno := sift(q.rows, q.where)
+	rows, errno := joinAll(q.sources)
+	if errno != api.OK {
+		return nil, errno
+	}
+	rows, _, errno = sift(rows, q.where)
 	if errno != api.OK {
 		return nil, errno
 	}
@@ -41,14 +46,10 @@ func (d *DB) choose(s *syntax.Select) ([][]api.Value, api.Errno) {
 }
 
 func (d *DB) compileQuery(s *syntax.Select) (query, api.Errno) {
-	if len(s.Sources) > 1 {
-		return query{}, api.ErrSyntax // JOIN is read, but not done yet: too many sources, rather than rows that are wrong
+	sources, columns, errno := d.compileSources(s.Sources)
+	if errno != api.OK {
+		return query{}, errno
 	}
-	t := d.find(s.Sources[0].Table)
-	if t == nil {
-		return query{}, api.ErrName
-	}
-	columns := t.scope(s.Sources[0].Name)
 	values, errno := compileAll(valuesOf(s, columns), columns)
 	if errno != api.OK {
 		return query{}, errno
@@ -61,7 +62,7 @@ func (d *DB) compileQuery(s *syntax.Select) (query, api.Errno) {
 	if errno != api.OK {
 		return query{}, errno
 	}
-	return query{rows: t.rows, values: values, where: where, orders: orders}, api.OK
+	return query{sources: sources, values: values, where: where, orders: orders}, api.OK
 }
 
 // valuesOf takes the name of each column for a *.
@@ -132,13 +133,13 @@ func reckonRows(rows [][]api.Value, programs []machine.Program) ([][]api.Value, 
 	return out, api.OK
 }
 
-// withoutTwice leaves out each row that is the same as one ahead of it. Rows are held against each other as they are saved: no two are told alike.
+// withoutTwice leaves out each row that is the same as one ahead of it.
 func withoutTwice(rows [][]api.Value) [][]api.Value {
 	met := map[string]int{}
 	var once [][]api.Value
 nextRow:
 	for _, row := range rows {
-		key := inBrackets(row, valueText)
+		key := rowKey(row)
 		met[key]++
 		if met[key] > 1 {
 			continue nextRow
@@ -146,6 +147,19 @@ nextRow:
 		once = append(once, row)
 	}
 	return once
+}
+
+// rowKey is one for rows that are the same, and for no others: a text's length stands ahead of it, so that its end is not mistaken.
+func rowKey(row []api.Value) string {
+	var key []byte
+	for _, v := range row {
+		for _, n := range [...]int{v.Kind, v.N, len(v.S)} {
+			key = strconv.AppendInt(key, int64(n), 10)
+			key = append(key, ' ')
+		}
+		key = append(key, v.S...)
+	}
+	return string(key)
 }
 
 // window leaves out the first rows, and those behind the last that may be told.

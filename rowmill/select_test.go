@@ -2,6 +2,7 @@ package rowmill
 
 import (
 	"fmt"
+	"math"
 	"strings"
 	"testing"
 
@@ -82,6 +83,24 @@ func TestDistinctApart(t *testing.T) {
 	}
 	does(t, d, 1, "INSERT INTO n VALUES (-9223372036854775807)", "INSERT INTO n VALUES (-9223372036854775807 - 1)", "INSERT INTO n VALUES (1)", "INSERT INTO n VALUES (0)", "INSERT INTO n VALUES (NULL)", "INSERT INTO n VALUES (-1)", "INSERT INTO n VALUES (-9223372036854775807 - 1)", "INSERT INTO n VALUES (-0)")
 	asked(t, d, "SELECT DISTINCT a FROM n", "-9223372036854775807 -9223372036854775808 1 0 - -1")
+}
+
+// TestRowKey: rows that are not the same have keys that are not, whatever digits and texts they have.
+func TestRowKey(t *testing.T) {
+	values := []api.Value{{}, truthValue(false), truthValue(true), {Kind: api.Text, S: ""}}
+	for _, n := range []int{0, 1, 2, 10, 11, 20, 101, 110, 1011, 2012, 20120, 30, 130, -1, -2, -10, math.MaxInt, math.MinInt} {
+		values = append(values, number(n), api.Value{Kind: api.Text, S: fmt.Sprint(n)}, api.Value{Kind: api.Text, S: fmt.Sprint(n, " ")}, api.Value{Kind: api.Text, S: "2 0 1 " + fmt.Sprint(n)})
+	}
+	met := map[string][]api.Value{}
+	for _, x := range values {
+		for _, y := range values {
+			row := []api.Value{x, y}
+			if other := met[rowKey(row)]; other != nil {
+				t.Errorf("%v and %v have one key: %q", row, other, rowKey(row))
+			}
+			met[rowKey(row)] = row
+		}
+	}
 }
 
 func TestSelectLimit(t *testing.T) {

@@ -16,6 +16,7 @@ var starts = []string{
 	"UPDATE m SET a = a - 1, b = NULL WHERE c AND b >= 'x'",
 	"SELECT DISTINCT a, m.b FROM m WHERE c OR a = 0 ORDER BY -a DESC, b LIMIT 2 OFFSET 1",
 	"SELECT DISTINCT x.a, 1 FROM m AS x LEFT JOIN n ON x.a = n.a WHERE TRUE ORDER BY b DESC, 1 LIMIT 3 OFFSET 4",
+	"SELECT * FROM n AS x JOIN m ON c OR x.a IS NULL LEFT JOIN b ON b.a AND m.a > x.a WHERE b.a IS NULL",
 }
 
 // filled has rows for these statements to go through.
@@ -31,17 +32,21 @@ func checkAny(t *testing.T, d *DB, text string) {
 	t.Helper()
 	before := d.Save()
 	r, errno := d.Exec(text)
+	after := d.Save()
 	if errno < api.OK || errno > api.ErrFull {
 		t.Errorf("Exec(%q): error %d", text, errno)
 	}
-	if errno != api.OK && (r.Rows != nil || r.Count != 0 || d.Save() != before) {
-		t.Errorf("Exec(%q): %v, %d, and Save %q, before %q", text, r, errno, d.Save(), before)
+	if errno != api.OK && (r.Rows != nil || r.Count != 0 || after != before) {
+		t.Errorf("Exec(%q): %v, %d, and Save %q, before %q", text, r, errno, after, before)
 	}
-	if r.Rows != nil && (r.Count != 0 || d.Save() != before) {
-		t.Errorf("Exec(%q): %v, and Save %q, before %q", text, r, d.Save(), before)
+	if r.Rows != nil && (r.Count != 0 || after != before) {
+		t.Errorf("Exec(%q): %v, and Save %q, before %q", text, r, after, before)
 	}
-	if errno == api.OK && !strings.Contains(d.Save(), "CREATE TABLE m (a INT, b TEXT, c BOOL)\n") {
-		t.Errorf("Exec(%q): Save %q", text, d.Save())
+	if errno == api.OK && !strings.Contains(after, "CREATE TABLE m (a INT, b TEXT, c BOOL)\n") {
+		t.Errorf("Exec(%q): Save %q", text, after)
+	}
+	if after != before {
+		loaded(t, after)
 	}
 }
 
@@ -79,6 +84,7 @@ func TestShortStatements(t *testing.T) {
 		checkAny(t, d, "INSERT INTO n VALUES ("+row+")")
 		checkAny(t, d, "INSERT INTO b VALUES ("+row+")")
 		checkAny(t, d, "SELECT "+row+" FROM m ORDER BY a")
+		checkAny(t, d, "SELECT c FROM m LEFT JOIN b ON "+row)
 		checkAny(t, d, "UPDATE n SET a = "+row)
 		checkAny(t, d, "DELETE FROM m WHERE a = 7 AND "+row)
 	}
